@@ -1,0 +1,1 @@
+"""Lookspoil: what can be told of cells that a look changes."""

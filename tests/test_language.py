@@ -1,0 +1,107 @@
+"""Those rules of LANGUAGE.md that can be read off the package's files."""
+
+import ast
+import builtins
+import pathlib
+import unittest
+
+FOLDER = pathlib.Path(__file__).resolve().parent.parent / "lookspoil"
+FILES = sorted(path for path in FOLDER.rglob("*") if "__pycache__" not in path.parts)
+BUILTINS = (
+    "len range enumerate zip min max sum abs sorted reversed int str bool bytes list tuple dict set isinstance ord "
+    "repr any all divmod ValueError TypeError KeyError IndexError LookupError NotImplemented super").split()
+METHODS = (
+    "append clear copy count endswith extend find get index insert isalnum isalpha isdigit islower isspace isupper "
+    "items join keys ljust lower lstrip partition pop remove replace reverse rfind rjust rpartition rsplit rstrip "
+    "setdefault split splitlines startswith strip update upper values zfill bit_length").split()
+NEVER = (
+    ast.GeneratorExp, ast.Set, ast.Global, ast.Div, ast.AsyncFunctionDef, ast.JoinedStr, ast.Import, ast.Try,
+    ast.Yield, ast.YieldFrom, ast.NamedExpr, ast.Starred)
+AT_TOP = (ast.ImportFrom, ast.FunctionDef, ast.ClassDef, ast.Assign)
+
+
+def trees():
+    return [(path, ast.parse(path.read_text("utf-8"))) for path in FILES if path.suffix == ".py"]
+
+
+def bound_names(function):
+    """The parameters and variables of a function."""
+    told = function.args
+    names = [one.arg for one in told.args + told.posonlyargs + told.kwonlyargs]
+    return names + [
+        node.id for node in ast.walk(function) if isinstance(node, ast.Name) and isinstance(node.ctx, ast.Store)]
+
+
+class Language(unittest.TestCase):
+    def test_files_and_characters(self):
+        self.assertTrue(FILES)
+        for path in FILES:
+            self.assertEqual((path.suffix, path.stem), (".py", path.stem.lower()))
+            data = path.read_bytes()
+            self.assertEqual([byte for byte in data if byte != 10 and not 32 <= byte <= 126], [], path)
+
+    def test_sizes(self):
+        for path, tree in trees():
+            lines = path.read_text("utf-8").split("\n")
+            self.assertLessEqual(len(lines), 399, path)
+            self.assertLessEqual(max(len(line) for line in lines), 120, path)
+            for node in ast.walk(tree):
+                if isinstance(node, ast.FunctionDef):
+                    self.assertLessEqual(node.end_lineno - node.lineno + 1, 40, node.name)
+
+    def test_module_level(self):
+        for path, tree in trees():
+            self.assertIsInstance(tree.body[0].value, ast.Constant, path)
+            for node in tree.body[1:]:
+                self.assertIsInstance(node, AT_TOP, path)
+                if isinstance(node, ast.Assign):
+                    ast.literal_eval(node.value)
+
+    def test_imports_name_the_file_that_defines_and_never_go_round(self):
+        leads = {}
+        for path, tree in trees():
+            imports = [node for node in ast.walk(tree) if isinstance(node, ast.ImportFrom)]
+            leads[path.stem] = [node.module.split(".")[-1] for node in imports]
+            for node in imports:
+                self.assertEqual((node.module.split(".")[0], node.level), ("lookspoil", 0), path)
+                source = ast.parse((FOLDER / (node.module.split(".")[1] + ".py")).read_text("utf-8"))
+                here = [one.name for one in source.body if isinstance(one, (ast.FunctionDef, ast.ClassDef))]
+                here += [one.targets[0].id for one in source.body if isinstance(one, ast.Assign)]
+                for name in node.names:
+                    self.assertIsNone(name.asname)
+                    self.assertIn(name.name, here, path)
+        while leads:
+            done = [name for name in leads if not any(other in leads for other in leads[name])]
+            self.assertTrue(done, leads)
+            leads = {name: leads[name] for name in leads if name not in done}
+
+    def test_statements_and_expressions(self):
+        for path, tree in trees():
+            for node in ast.walk(tree):
+                self.assertNotIsInstance(node, NEVER, (path, getattr(node, "lineno", 0)))
+                if isinstance(node, ast.Constant):
+                    self.assertNotIsInstance(node.value, float)
+                if isinstance(node, ast.Compare) and isinstance(node.ops[0], (ast.Is, ast.IsNot)):
+                    self.assertIsInstance(node.comparators[0], ast.Constant)
+                if isinstance(node, (ast.FunctionDef, ast.ClassDef)):
+                    self.assertEqual(node.decorator_list, [])
+
+    def test_names(self):
+        for path, tree in trees():
+            imported = {name.name for node in ast.walk(tree) if isinstance(node, ast.ImportFrom) for name in node.names}
+            known = {node.name for node in tree.body if isinstance(node, (ast.FunctionDef, ast.ClassDef))}
+            self.assertEqual([name for name in known if hasattr(builtins, name)], [])
+            for node in ast.walk(tree):
+                if isinstance(node, ast.Name) and hasattr(builtins, node.id):
+                    self.assertIn(node.id, BUILTINS, path)
+                    self.assertIsInstance(node.ctx, ast.Load, path)
+                if isinstance(node, ast.FunctionDef):
+                    names = bound_names(node)
+                    self.assertEqual([name for name in names if name in imported | known], [], path)
+                    self.assertEqual([name for name in names if hasattr(builtins, name)], [], path)
+                if isinstance(node, ast.Call) and isinstance(node.func, ast.Attribute):
+                    self.assertIn(node.func.attr, METHODS, path)
+
+
+if __name__ == "__main__":
+    unittest.main()
