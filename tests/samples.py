@@ -14,10 +14,17 @@ WHEEL = Kind((((0, 1),), ((0, 2),), ((1, 0),)), ((), (), ()), ())
 MIST = Kind((((0, 0), (1, 2)), ((0, 1), (2, 0)), ((3, 2),)), ((1,), (0,), (2,)), ((2, (0, 1, 2)),))
 # Answers that end in unlike rounds behind a long way that is the same.
 LATE = Kind(tuple([((0, 1),), ((0, 2),), ((1, 2),), ((0, 4),), ((0, 5),), ((2, 5),)]), ((),) * 6, ())
-# A drift leads from 0 ahead of a look that only 1 has.
+# 0 drifts to 1, and 1 to 2; only 1 answers 6, only 2 answers 7.
 SLIP = Kind((((5, 0),), ((6, 2),), ((7, 2),)), ((1,), (2,), ()), ())
 LONE = Kind((((4, 0),),), ((),), ())
-SAMPLES = (CORE, STILL, WHEEL, MIST, LATE, SLIP, LONE)
+# Six answers 0, then 1 for ever; 7 answers 0 for ever.
+STEEP = Kind((*[((0, goal),) for goal in range(1, 7)], ((1, 6),), ((0, 7),)), ((),) * 8, ())
+# Two rounds, of three and five answers, that go together for long.
+GEARS = Kind(
+    tuple(((answer, goal),) for answer, goal in zip((0, 1, 0, 0, 1, 0, 0, 1), (1, 2, 0, 4, 5, 6, 7, 3))), ((),) * 8, ())
+# All ways from 0 and 2 lead to 4, from 1 and 3 to 5; these never answer alike.
+FOG = Kind((((0, 4),), ((0, 5),), ((3, 4),), ((3, 5),), ((1, 4),), ((2, 5),)), ((2,), (3,), (), (), (4,), ()), ())
+SAMPLES = (CORE, STILL, WHEEL, MIST, LATE, SLIP, LONE, STEEP, GEARS, FOG)
 
 
 def odd_things():
@@ -69,3 +76,51 @@ def coming(kind):
         if middle in near[one]:
             near[one] |= near[middle]
     return near
+
+
+def steps_of_pair(kind, pair):
+    """The joint looks and the drifts that lead from a pair: two sets of pairs."""
+    s, t = pair
+    looks = {
+        (one, two) for (answer, one), (other, two) in itertools.product(kind.looks[s], kind.looks[t])
+        if answer == other}
+    return looks, {(goal, t) for goal in kind.drifts[s]} | {(s, goal) for goal in kind.drifts[t]}
+
+
+def greatest_looks(kind, begins):
+    """The greatest number of joint looks one behind another from some of begins, or None if there is none.
+
+    More joint looks than there are pairs come round to the same pair twice.
+    """
+    here = drifted(kind, set(begins))
+    for many in range(kind.size ** 2 + 1):
+        behind = set().union(*[steps_of_pair(kind, pair)[0] for pair in here])
+        if not behind:
+            return many
+        here = drifted(kind, behind)
+    return None
+
+
+def drifted(kind, pairs):
+    """The pairs to which drifts alone lead from these."""
+    while True:
+        more = pairs.union(*[steps_of_pair(kind, pair)[1] for pair in pairs])
+        if more == pairs:
+            return pairs
+        pairs = more
+
+
+def all_pairs(kind, u, v):
+    """What point 3.1 calls the pairs of u and v."""
+    near = coming(kind)
+    return set(itertools.product(near[u], near[v]))
+
+
+def many_kinds():
+    """Kinds that are sure, that have more outcomes, and that drift."""
+    return (
+        list(SAMPLES) + some_kinds(40, "sure", sizes=(1, 2, 3, 4, 5), answers=2, drifts=0, outcomes=1)
+        + some_kinds(30, "looks", sizes=(2, 3, 4), answers=4, drifts=0)
+        + some_kinds(40, "drifts", sizes=(2, 3, 4), answers=5, drifts=1, outcomes=1)
+        + some_kinds(30, "both", sizes=(2, 3, 4), answers=7, drifts=1, outcomes=3)
+        + some_kinds(6, "large", sizes=(6, 8), answers=9, drifts=1))

@@ -5,6 +5,15 @@ import inspect
 import unittest
 
 FUNCTIONS = {
+    "pairs": (
+        "apart(kind, u, v)", "alike_pairs(kind)", "heights(kind, u, v)", "is_heights(kind, u, v, thing)",
+        "common(kind, u, v)", "common_row(kind, u, v)"),
+    "likenesses": ("likeness(kind, u, v)", "is_likeness(kind, u, v, thing)"),
+    "sures": (
+        "sure(kind)", "class_of(kind, standing)", "classes(kind)", "haunted(kind)", "worn(kind, standing)"),
+    "books": (
+        "apart_cells(book, one, two)", "kept(book)", "keeping(book)", "denial(book)", "is_keeping(book, thing)",
+        "is_denial(book, thing)"),
     "ways": ("comes(kind, standing)", "after_row(kind, standings, row)", "way_end(kind, standing, way)"),
 }
 CLASSES = {

@@ -1,0 +1,44 @@
+"""The examples e01 to e06 of the document, word for word."""
+
+import unittest
+
+from lookspoil.books import apart_cells
+from lookspoil.kinds import Kind
+from lookspoil.likenesses import is_likeness
+from lookspoil.pairs import apart, common, heights
+from lookspoil.stores import Book, Store
+from lookspoil.sures import class_of, classes
+from lookspoil.ways import after_row, comes, way_end
+
+core = Kind((((0, 0),), ((1, 0),)), ((), ()), ((0, ()), (1, (0,))))
+still = Kind((((0, 0),), ((1, 1),)), ((), ()), ())
+wheel = Kind((((0, 1),), ((0, 2),), ((1, 0),)), ((), (), ()), ())
+
+
+class Examples(unittest.TestCase):
+    def test_e01(self):
+        self.assertEqual(comes(core, 1), [0, 1])
+        self.assertEqual(way_end(core, 1, (("look", 0),)), 0)
+        self.assertEqual(after_row(wheel, [0, 1, 2], (0, 1)), [0])
+
+    def test_e02(self):
+        self.assertIs(apart(core, 0, 1), False)
+        self.assertIs(apart(still, 0, 1), True)
+
+    def test_e03(self):
+        self.assertEqual(heights(still, 0, 1), {(0, 1): 0})
+        self.assertIsNone(common(core, 0, 1))
+
+    def test_e04(self):
+        self.assertIs(is_likeness(core, 0, 1, ((), (("look", 0),), (("both", 0, 0),))), True)
+
+    def test_e05(self):
+        self.assertEqual(classes(wheel), [(0, 0, 1)])
+        self.assertEqual(class_of(core, 1), (0,))
+
+    def test_e06(self):
+        self.assertEqual(apart_cells(Book(Store((core, still)), ((1, 0), (0, 1))), 0, 1), [1])
+
+
+if __name__ == "__main__":
+    unittest.main()
