@@ -14,6 +14,11 @@ def is_below(bound, thing):
     return is_integer(thing) and 0 <= thing < bound
 
 
+def is_between(least, most, thing):
+    """Whether thing is an integer from least to most."""
+    return is_integer(thing) and least <= thing <= most
+
+
 def is_tuple(least, most, thing):
     """Whether thing is a tuple of least to most things."""
     return isinstance(thing, tuple) and least <= len(thing) <= most

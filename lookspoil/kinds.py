@@ -30,6 +30,11 @@ class Kind:
                 and self.drifts == other.drifts and self.puts == other.puts)
 
 
+def answers_of(kind):
+    """The ascending list of the answers that a look can give in some standing."""
+    return sorted({answer for outcomes in kind.looks for answer, _ in outcomes})
+
+
 def are_looks(thing):
     """Whether thing is the looks of a kind, which also tell how many standings it has."""
     if not is_tuple(1, MOST_STANDINGS, thing):

@@ -43,6 +43,11 @@ def are_layouts(store, thing):
     return is_tuple(1, MOST_NAMES, thing) and all([is_layout(store, layout) for layout in thing])
 
 
+def is_cell(store, thing):
+    """Whether thing is a cell of the store."""
+    return is_below(len(store.kinds), thing)
+
+
 def is_layout(store, thing):
     """Whether thing is a layout of the store."""
     cells = len(store.kinds)

@@ -1,11 +1,14 @@
-"""The examples e01 to e06 of the document, word for word."""
+"""The examples e01 to e08 of the document, word for word."""
 
 import unittest
 
 from lookspoil.books import apart_cells
+from lookspoil.borne import cuts_borne, meeting
+from lookspoil.judging import is_refutation
 from lookspoil.kinds import Kind
 from lookspoil.likenesses import is_likeness
 from lookspoil.pairs import apart, common, heights
+from lookspoil.programs import Program
 from lookspoil.stores import Book, Store
 from lookspoil.sures import class_of, classes
 from lookspoil.ways import after_row, comes, way_end
@@ -13,6 +16,8 @@ from lookspoil.ways import after_row, comes, way_end
 core = Kind((((0, 0),), ((1, 0),)), ((), ()), ((0, ()), (1, (0,))))
 still = Kind((((0, 0),), ((1, 1),)), ((), ()), ())
 wheel = Kind((((0, 1),), ((0, 2),), ((1, 0),)), ((), (), ()), ())
+one = Book(Store((core,)), ((0,), (1,)))
+p = Program(Store((core,)), (("look", 0, ((0, 1), (1, 2))), ("tell", 0), ("tell", 1)))
 
 
 class Examples(unittest.TestCase):
@@ -38,6 +43,13 @@ class Examples(unittest.TestCase):
 
     def test_e06(self):
         self.assertEqual(apart_cells(Book(Store((core, still)), ((1, 0), (0, 1))), 0, 1), [1])
+
+    def test_e07(self):
+        self.assertEqual(cuts_borne(p, one), 0)
+        self.assertEqual(meeting(p, one, 0, 1), 1)
+
+    def test_e08(self):
+        self.assertIs(is_refutation(p, one, (1, (("spoilt", 0), ("step", 0)))), True)
 
 
 if __name__ == "__main__":

@@ -14,12 +14,34 @@ FUNCTIONS = {
     "books": (
         "apart_cells(book, one, two)", "kept(book)", "keeping(book)", "denial(book)", "is_keeping(book, thing)",
         "is_denial(book, thing)"),
+    "programs": ("has_puts(program)",),
+    "traces": ("follow(program, layout, trace)", "cuts_in(trace)"),
+    "judging": (
+        "table(program, book)", "refutation(program, book)", "is_table(program, book, thing)",
+        "is_refutation(program, book, thing)"),
+    "borne": (
+        "cuts_borne(program, book)", "meeting(program, book, one, two)", "gap_needed(program, book)",
+        "dead_places(program, book)"),
     "ways": ("comes(kind, standing)", "after_row(kind, standings, row)", "way_end(kind, standing, way)"),
 }
 CLASSES = {
     "kinds": {"Kind": ("looks", "drifts", "puts")},
     "stores": {"Store": ("kinds",), "Book": ("store", "layouts")},
+    "programs": {"Program": ("store", "steps")},
+    "benches": {"Bench": ("program", "layout")},
 }
+METHODS = {
+    "Kind": ("__eq__(other)",), "Store": ("__eq__(other)",), "Book": ("__eq__(other)",),
+    "Program": ("__eq__(other)",),
+    "Bench": (
+        "layout()", "trace()", "moves()", "do(move)", "name()", "back(many)", "copy()", "trying(action)"),
+}
+
+
+def named(line):
+    """The name and the list of the arguments in a line of those above."""
+    name, told = line.rstrip(")").split("(")
+    return name, told.split(", ") if told else []
 
 
 class Interface(unittest.TestCase):
@@ -27,10 +49,10 @@ class Interface(unittest.TestCase):
         for file, lines in FUNCTIONS.items():
             module = importlib.import_module("lookspoil." + file)
             for line in lines:
-                name, told = line.rstrip(")").split("(")
+                name, told = named(line)
                 function = getattr(module, name)
                 self.assertEqual(function.__module__, module.__name__)
-                self.assertEqual(list(inspect.signature(function).parameters), told.split(", "))
+                self.assertEqual(list(inspect.signature(function).parameters), told)
 
     def test_classes(self):
         for file, told in CLASSES.items():
@@ -40,7 +62,9 @@ class Interface(unittest.TestCase):
                 self.assertEqual(made.__module__, module.__name__)
                 self.assertEqual(tuple(inspect.signature(made).parameters), arguments)
                 self.assertIn("__init__", vars(made))
-                self.assertIn("__eq__", vars(made))
+                for line in METHODS[name]:
+                    method, taken = named(line)
+                    self.assertEqual(list(inspect.signature(vars(made)[method]).parameters), ["self"] + taken)
 
 
 if __name__ == "__main__":

@@ -15,8 +15,11 @@ METHODS = (
     "items join keys ljust lower lstrip partition pop remove replace reverse rfind rjust rpartition rsplit rstrip "
     "setdefault split splitlines startswith strip update upper values zfill bit_length").split()
 NEVER = (
-    ast.GeneratorExp, ast.Set, ast.Global, ast.Div, ast.AsyncFunctionDef, ast.JoinedStr, ast.Import, ast.Try,
-    ast.Yield, ast.YieldFrom, ast.NamedExpr, ast.Starred)
+    ast.GeneratorExp, ast.Set, ast.Global, ast.Div, ast.AsyncFunctionDef, ast.JoinedStr, ast.Import,
+    ast.ExceptHandler, ast.Yield, ast.YieldFrom, ast.NamedExpr, ast.Starred)
+LIBRARY = {"heapq": ("heappop", "heappush"), "itertools": ("product",)}
+ONCE = ("range", "zip", "enumerate", "reversed", "items", "keys", "values", "product")
+TAKERS = ("list", "tuple", "dict", "sorted", "sum", "any", "all", "enumerate", "zip", "min", "max", "reversed")
 AT_TOP = (ast.ImportFrom, ast.FunctionDef, ast.ClassDef, ast.Assign)
 
 
@@ -30,6 +33,16 @@ def bound_names(function):
     names = [one.arg for one in told.args + told.posonlyargs + told.kwonlyargs]
     return names + [
         node.id for node in ast.walk(function) if isinstance(node, ast.Name) and isinstance(node.ctx, ast.Store)]
+
+
+def with_those_above(tree):
+    """Each node of a file, with the one in which it stands."""
+    return [(node, above) for above in ast.walk(tree) for node in ast.iter_child_nodes(above)]
+
+
+def called(node):
+    """The name of what is called."""
+    return node.func.attr if isinstance(node.func, ast.Attribute) else getattr(node.func, "id", "")
 
 
 class Language(unittest.TestCase):
@@ -60,7 +73,14 @@ class Language(unittest.TestCase):
     def test_imports_name_the_file_that_defines_and_never_go_round(self):
         leads = {}
         for path, tree in trees():
-            imports = [node for node in ast.walk(tree) if isinstance(node, ast.ImportFrom)]
+            imports = []
+            for node in [node for node in ast.walk(tree) if isinstance(node, ast.ImportFrom)]:
+                if node.module in LIBRARY:
+                    for name in node.names:
+                        self.assertIsNone(name.asname)
+                        self.assertIn(name.name, LIBRARY[node.module], path)
+                else:
+                    imports.append(node)
             leads[path.stem] = [node.module.split(".")[-1] for node in imports]
             for node in imports:
                 self.assertEqual((node.module.split(".")[0], node.level), ("lookspoil", 0), path)
@@ -86,7 +106,35 @@ class Language(unittest.TestCase):
                 if isinstance(node, (ast.FunctionDef, ast.ClassDef)):
                     self.assertEqual(node.decorator_list, [])
 
+    def test_what_is_iterated_at_once(self):
+        for path, tree in trees():
+            for node, above in with_those_above(tree):
+                if not isinstance(node, ast.Call) or called(node) not in ONCE:
+                    continue
+                loops = isinstance(above, (ast.For, ast.comprehension)) and above.iter == node
+                takes = isinstance(above, ast.Call) and called(above) in TAKERS
+                asks = called(node) == "range" and isinstance(above, ast.Compare)
+                self.assertTrue(loops or takes or asks, (path, node.lineno))
+
+    def test_sets_are_sorted_measured_or_kept_under_a_name(self):
+        for path, tree in trees():
+            for node, above in with_those_above(tree):
+                if isinstance(node, ast.SetComp) or (isinstance(node, ast.Call) and called(node) == "set"):
+                    takes = isinstance(above, ast.Call) and called(above) in ("sorted", "len")
+                    self.assertTrue(takes or isinstance(above, (ast.Assign, ast.Compare)), (path, node.lineno))
+
+    def test_a_finally_puts_names_back_alone(self):
+        for path, tree in trees():
+            for node in [node for node in ast.walk(tree) if isinstance(node, ast.Try)]:
+                self.assertTrue(node.finalbody)
+                for line in node.finalbody:
+                    self.assertIsInstance(line, ast.Assign, path)
+                    self.assertIsInstance(line.value, ast.Name, path)
+
     def test_names(self):
+        own = {
+            node.name for _, tree in trees() for made in ast.walk(tree) if isinstance(made, ast.ClassDef)
+            for node in made.body if isinstance(node, ast.FunctionDef)}
         for path, tree in trees():
             imported = {name.name for node in ast.walk(tree) if isinstance(node, ast.ImportFrom) for name in node.names}
             known = {node.name for node in tree.body if isinstance(node, (ast.FunctionDef, ast.ClassDef))}
@@ -100,7 +148,7 @@ class Language(unittest.TestCase):
                     self.assertEqual([name for name in names if name in imported | known], [], path)
                     self.assertEqual([name for name in names if hasattr(builtins, name)], [], path)
                 if isinstance(node, ast.Call) and isinstance(node.func, ast.Attribute):
-                    self.assertIn(node.func.attr, METHODS, path)
+                    self.assertIn(node.func.attr, own.union(METHODS), path)
 
 
 if __name__ == "__main__":
