@@ -6,6 +6,7 @@ looks, one behind another, that a pair has ahead, for the pairs that have one.
 """
 
 from lookspoil.checks import is_integer
+from lookspoil.paths import longest_paths
 from lookspoil.ways import closed, comes
 
 
@@ -112,24 +113,5 @@ def answers_ahead(kind, standing):
 
 
 def height_table(kind):
-    """The height of each pair of the kind that has no endless joint looks ahead.
-
-    A pair gets its height when all that joint looks lead to have theirs; those
-    that lead round to themselves never do.
-    """
-    goals = joint_goals(kind)
-    begins = {pair: [] for pair in goals}
-    for pair in goals:
-        for goal in goals[pair]:
-            begins[goal].append(pair)
-    unknown = {pair: len(goals[pair]) for pair in goals}
-    ready = [pair for pair in goals if unknown[pair] == 0]
-    table = {}
-    while ready:
-        pair = ready.pop()
-        table[pair] = max([table[goal] + 1 for goal in goals[pair]], default=0)
-        for begin in begins[pair]:
-            unknown[begin] -= 1
-            if unknown[begin] == 0:
-                ready.append(begin)
-    return table
+    """The height of each pair of the kind that has no endless joint looks ahead."""
+    return longest_paths(joint_goals(kind))

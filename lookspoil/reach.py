@@ -11,7 +11,7 @@ def least_cuts(program, layout):
     None at the beginning. Pairs with fewer cuts come first.
     """
     found = {}
-    begins = [((0, layout), None, None)]
+    begins = {(0, layout): (None, None)}
     cuts = 0
     while begins:
         begins = spread(program, found, begins, cuts)
@@ -20,23 +20,25 @@ def least_cuts(program, layout):
 
 
 def spread(program, found, begins, cuts):
-    """Add what moves that are no cuts reach from begins, and return what the cuts from there reach.
+    """Add begins, and what moves that are no cuts reach from there, and return what cuts reach from all that is new.
 
-    Both begins and what is returned are triples: a pair, the move to it, and the pair ahead of that.
+    Both begins and what is returned are dicts from pairs to the move that leads there and the pair ahead of it.
     """
-    waiting = list(begins)
-    behind_cuts = []
+    waiting = [here for here in begins if here not in found]
+    for here in waiting:
+        move, ahead = begins[here]
+        found[here] = (cuts, move, ahead)
+    behind_cuts = {}
     at = 0
     while at < len(waiting):
-        here, last, ahead = waiting[at]
+        here = waiting[at]
         at += 1
-        if here not in found:
-            found[here] = (cuts, last, ahead)
-            for move, goal in moves_from(program, here):
-                if is_cut(move):
-                    behind_cuts.append((goal, move, here))
-                else:
-                    waiting.append((goal, move, here))
+        for move, goal in moves_from(program, here):
+            if goal not in found and is_cut(move):
+                behind_cuts.setdefault(goal, (move, here))
+            elif goal not in found:
+                found[goal] = (cuts, move, here)
+                waiting.append(goal)
     return behind_cuts
 
 

@@ -1,7 +1,7 @@
 """Stores, which are rows of cells, and books, which lay them down for names."""
 
 from lookspoil.checks import is_below, is_tuple
-from lookspoil.errors import BadBook, BadStore
+from lookspoil.errors import BadBook, BadStore, TooLarge
 from lookspoil.kinds import Kind
 
 MOST_CELLS = 5
@@ -41,6 +41,15 @@ def are_kinds(thing):
 def are_layouts(store, thing):
     """Whether thing is the layouts of a book of the store."""
     return is_tuple(1, MOST_NAMES, thing) and all([is_layout(store, layout) for layout in thing])
+
+
+def check_size(store, most):
+    """Raise TooLarge if the numbers of standings of the kinds, multiplied, are more than most."""
+    layouts = 1
+    for kind in store.kinds:
+        layouts = layouts * kind.size
+    if layouts > most:
+        raise TooLarge(most)
 
 
 def is_cell(store, thing):

@@ -9,13 +9,12 @@ from lookspoil.judging import table
 from lookspoil.kinds import Kind
 from lookspoil.programs import Program
 from lookspoil.stores import Book, Store
-from tests.samples import CORE, MIST, STILL, WHEEL, odd_things, one_by_one
+from tests.samples import CORE, MIST, STILL, odd_things, one_by_one
 from tests.worlds import (
-    BOTH, SHORT, TORN, all_moves, behind, chain, cuts_of_worst, dry_case, fewest_cuts, gap_case, graph_from,
+    BOTH, OTHERS, SHORT, TORN, all_moves, behind, chain, cuts_of_worst, dry_case, fewest_cuts, gap_case, graph_from,
     is_cutting, keeping_cases, mixed_cases, pairs_of_names)
 
 CASES = mixed_cases(120, "borne")
-OTHERS = [Book(Store((CORE, CORE)), ((0, 0),)), Book(Store((STILL,)), ((0,), (1,))), Book(Store((WHEEL,)), ((0,),))]
 
 
 def meeting_found(program, book, one, two):

@@ -1,9 +1,10 @@
-"""The examples e01 to e08 of the document, word for word."""
+"""The examples e01 to e09 of the document, word for word."""
 
 import unittest
 
 from lookspoil.books import apart_cells
 from lookspoil.borne import cuts_borne, meeting
+from lookspoil.drying import dry_book, dry_program
 from lookspoil.judging import is_refutation
 from lookspoil.kinds import Kind
 from lookspoil.likenesses import is_likeness
@@ -50,6 +51,9 @@ class Examples(unittest.TestCase):
 
     def test_e08(self):
         self.assertIs(is_refutation(p, one, (1, (("spoilt", 0), ("step", 0)))), True)
+
+    def test_e09(self):
+        self.assertEqual(cuts_borne(dry_program((2, 1)), dry_book((2, 1))), 2)
 
 
 if __name__ == "__main__":

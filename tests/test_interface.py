@@ -22,6 +22,11 @@ FUNCTIONS = {
     "borne": (
         "cuts_borne(program, book)", "meeting(program, book, one, two)", "gap_needed(program, book)",
         "dead_places(program, book)"),
+    "plans": (
+        "bound(book, denied)", "plan(program, book, denied)", "is_plan(program, book, one, two, thing)"),
+    "readers": ("bears(program, book)", "reader(book)", "most_looks(program)"),
+    "quick": ("least_price(book, prices)", "cheapest_reader(book, prices)"),
+    "drying": ("drying(most)", "dry_store(lengths)", "dry_book(lengths)", "dry_program(lengths)"),
     "ways": ("comes(kind, standing)", "after_row(kind, standings, row)", "way_end(kind, standing, way)"),
 }
 CLASSES = {

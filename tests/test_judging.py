@@ -11,16 +11,15 @@ from lookspoil.kinds import Kind
 from lookspoil.programs import Program
 from lookspoil.stores import Book, Store
 from lookspoil.traces import cuts_in, follow
-from tests.samples import CORE, MIST, STILL, WHEEL, odd_things, one_by_one
+from tests.samples import CORE, MIST, STILL, odd_things, one_by_one
 from tests.worlds import (
-    BOTH, SHORT, chain, chance_trace, cuts_of_worst, dry_case, fewest_cuts, graph_from, keeping_cases,
+    BOTH, OTHERS, SHORT, chain, chance_trace, cuts_of_worst, dry_case, fewest_cuts, graph_from, keeping_cases,
     mixed_cases, some_cases, with_put_in, wrong_tells)
 
 CASES = mixed_cases(150, "judging")
 EASY = Program(Store((STILL,)), (("look", 0, ((0, 1), (1, 2))), ("tell", 0), ("tell", 1)))
 EASY_BOOK = Book(EASY.store, ((0,), (1,)))
 EASY_TABLE = (((0, (0,)), (1, (0,))), ((0, (1,)), (2, (1,))))
-OTHERS = [Book(Store((CORE, CORE)), ((0, 0),)), Book(Store((STILL,)), ((0,), (1,))), Book(Store((WHEEL,)), ((0,),))]
 
 
 class Tables(unittest.TestCase):

@@ -17,8 +17,8 @@ METHODS = (
 NEVER = (
     ast.GeneratorExp, ast.Set, ast.Global, ast.Div, ast.AsyncFunctionDef, ast.JoinedStr, ast.Import,
     ast.ExceptHandler, ast.Yield, ast.YieldFrom, ast.NamedExpr, ast.Starred)
-LIBRARY = {"heapq": ("heappop", "heappush"), "itertools": ("product",)}
-ONCE = ("range", "zip", "enumerate", "reversed", "items", "keys", "values", "product")
+LIBRARY = {"heapq": ("heappop", "heappush")}
+ONCE = ("range", "zip", "enumerate", "reversed", "items", "keys", "values")
 TAKERS = ("list", "tuple", "dict", "sorted", "sum", "any", "all", "enumerate", "zip", "min", "max", "reversed")
 AT_TOP = (ast.ImportFrom, ast.FunctionDef, ast.ClassDef, ast.Assign)
 

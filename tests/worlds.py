@@ -1,18 +1,23 @@
 """Programs by chance, and what can happen to their runs, by the words of sections 6 and 7 alone."""
 
 import itertools
+import math
 import random
 
 from lookspoil.kinds import Kind
 from lookspoil.programs import Program
 from lookspoil.stores import Book, Store
-from tests.samples import CORE, MIST, SLIP, STILL, WHEEL, some_kinds
+from tests.samples import (
+    CORE, FOG, GEARS, LATE, MIST, SLIP, STEEP, STILL, WHEEL, all_pairs, coming, greatest_looks, some_kinds)
 
 # Every put can be torn, also to where no look leads.
 TORN = Kind((((0, 0),), ((1, 0),), ((2, 1), (3, 2))), ((), (2,), ()), ((1, (0, 2)), (2, ()), (0, (0, 1, 2))))
 PAIR = Store((TORN, MIST))
 SHORT = Program(Store((CORE,)), (("look", 0, ((0, 1), (1, 2))), ("tell", 0), ("tell", 1)))
 BOTH = Book(Store((CORE,)), ((0,), (1,)))
+# Books of other stores than that of SHORT.
+OTHERS = (
+    Book(Store((CORE, CORE)), ((0, 0), (0, 1))), Book(Store((STILL,)), ((0,), (0,))), Book(Store((WHEEL,)), ((0,),)))
 
 
 def answers_of_cell(kind):
@@ -80,6 +85,19 @@ def dry_case(lengths):
             Book(store, (tuple(lengths), (0,) * cells)))
 
 
+def level_case(lengths, order):
+    """A program that tells by the first of some cells that is not dry, with the names of the cells in this order.
+
+    The name of a cell is told wrongly behind as many cuts as the cell has looks; that of no cell, the last one, never.
+    """
+    dry, _ = dry_case(lengths)
+    cells = len(lengths)
+    looks = [("look", cell, ((0, cell + 1), (1, cells + 1 + cell))) for cell in range(cells)]
+    program = Program(dry.store, (*looks, ("tell", order[-1]), *[("tell", name) for name in order[:-1]]))
+    layouts = {name: (0,) * at + lengths[at:] for at, name in enumerate(order)}
+    return program, Book(dry.store, tuple(layouts[name] for name in range(cells + 1)))
+
+
 def gap_case(ahead, between, word="look"):
     """A program that looks at two cells that dry, one by one, with so many needless steps ahead of and between both.
 
@@ -123,7 +141,9 @@ def keeping_cases():
 def mixed_cases(many, seed):
     """Cases of all these sorts."""
     dry = [dry_case(lengths) for lengths in [(1,), (2,), (3,), (1, 1), (2, 1), (1, 2), (2, 2), (1, 1, 1)]]
-    return some_cases(many, seed) + keeping_cases() + dry + [
+    levels = [
+        level_case(lengths, order) for lengths in [(3, 2), (1, 3), (2, 2)] for order in itertools.permutations(range(3))]
+    return some_cases(many, seed) + keeping_cases() + dry + levels + [
         gap_case(ahead, between, word) for ahead in range(2) for between in range(3) for word in ("look", "put")]
 
 
@@ -235,3 +255,85 @@ def chain(store, size, name=0, cell=0):
     answers = answers_of_cell(store.kinds[cell])
     looks = [("look", cell, tuple((answer, at + 1) for answer in answers)) for at in range(size - 1)]
     return Program(store, (*looks, ("tell", name)))
+
+
+def ring_kind(chance, rings, answers, noise=0, drifts=0):
+    """A kind in which looks lead round in rings of these sizes, by chance with a second outcome or a drift inside."""
+    looks, drifting, first = [], [], 0
+    for size in rings:
+        ring = list(range(first, first + size))
+        first += size
+        for at in ring:
+            outcomes = {(chance.randrange(answers), ring[(at + 1) % size])}
+            if chance.random() < noise:
+                outcomes.add((chance.randrange(answers), chance.choice(ring)))
+            looks.append(tuple(sorted(outcomes)))
+            drifting.append((chance.choice(ring),) if chance.random() < drifts else ())
+    return Kind(tuple(looks), tuple(drifting), ())
+
+
+def apart_layouts(chance, store, many):
+    """At most many layouts of which each two are apart, by a search."""
+    kinds = [{
+        (u, v) for u, v in itertools.product(range(kind.size), repeat=2)
+        if greatest_looks(kind, all_pairs(kind, u, v)) is not None} for kind in store.kinds]
+    chosen = []
+    for _ in range(10 * many):
+        one = chance_layout(chance, store)
+        if all(any(pair in cell for pair, cell in zip(zip(one, two), kinds)) for two in chosen):
+            chosen.append(one)
+    return tuple(chosen[:many])
+
+
+def kept_books(many, seed, cells=3, names=5, size=1000):
+    """Kept books of kinds of all sorts, with no more layouts of the store than size."""
+    chance = random.Random(seed)
+    kinds = [CORE, STILL, STILL, WHEEL, GEARS, STEEP, LATE, SLIP, FOG]
+    for rings in [(1, 1), (1, 2), (2, 2), (1, 1, 1), (3, 2), (1, 4), (2, 1, 1)]:
+        kinds += [ring_kind(chance, rings, answers, noise, drifts) for answers, noise, drifts in [
+            (2, 0, 0), (3, 0.3, 0), (6, 0.3, 0.3), (10, 0.5, 0.3)]]
+    made = []
+    while len(made) < many:
+        store = chance_store(chance, kinds, cells)
+        if math.prod(kind.size for kind in store.kinds) <= size:
+            layouts = apart_layouts(chance, store, chance.randint(1, names))
+            if len(layouts) > 1 or chance.random() < 0.1:
+                made.append(Book(store, layouts))
+    return made
+
+
+def layouts_coming(book, name):
+    """All layouts in which each cell's standing comes from that of the name's layout."""
+    cells = [coming(kind)[at] for kind, at in zip(book.store.kinds, book.layouts[name])]
+    return list(itertools.product(*cells))
+
+
+def uncut_from(program, layouts):
+    """For each pair (place, layout) that traces without cuts from some of layouts reach the moves and pairs behind."""
+    graph, waiting = {}, [(0, layout) for layout in layouts]
+    while waiting:
+        here = waiting.pop()
+        if here not in graph:
+            moves = [move for move in all_moves(program, *here) if not is_cutting(move)]
+            graph[here] = [(move, behind(program, *here, move)) for move in moves]
+            waiting += [goal for _, goal in graph[here]]
+    return graph
+
+
+def bears_found(program, book):
+    """What bears must tell, by a search."""
+    if any(step[0] == "put" for step in program.steps):
+        return False
+    return not any(
+        wrong_tells(program, uncut_from(program, layouts_coming(book, name)), name)
+        for name in range(len(book.layouts)))
+
+
+# Looks tell the two rings apart only late, and in very many ways.
+BUSY = Kind(
+    (((5, 1), (7, 0), (9, 1)), ((3, 3), (5, 0), (9, 3)), ((6, 0), (6, 1), (9, 0)), ((3, 0), (5, 3), (7, 2), (8, 2)),
+     ((2, 5), (5, 7), (6, 4), (9, 4)), ((0, 5), (3, 5), (5, 4), (7, 6)), ((6, 4), (6, 6), (7, 4), (9, 6)),
+     ((0, 6), (2, 5), (6, 5), (9, 7))),
+    ((), (1,), (1,), (3,), (4,), (4,), (6,), ()), ())
+THREE = Kind((((0, 0),), ((1, 1),), ((2, 2),)), ((),) * 3, ())
+BUSY_BOOK = Book(Store((THREE, BUSY, BUSY)), tuple(itertools.product((0, 1, 2), (0, 4), (0, 4))))
