@@ -1,10 +1,10 @@
 """Benches: runs that are led move by move, and taken back."""
 
 from lookspoil.checks import is_between
-from lookspoil.errors import Ended, NoLayout, NoMove, NoNumber
+from lookspoil.errors import Ended, NoMove, NoNumber
 from lookspoil.moves import answer_of, moves_from
 from lookspoil.programs import told_at
-from lookspoil.stores import is_layout
+from lookspoil.stores import check_layout
 from lookspoil.ways import goal_of_step
 
 
@@ -12,8 +12,7 @@ class Bench:
     """A run of a program that is led."""
 
     def __init__(self, program, layout):
-        if not is_layout(program.store, layout):
-            raise NoLayout()
+        check_layout(program.store, layout)
         self.place = 0
         self._program = program
         self._standings = layout

@@ -12,15 +12,14 @@ out, the point at which it is told.
 from lookspoil.kinds import answers_of
 from lookspoil.making import told
 from lookspoil.paths import longest_paths
-from lookspoil.ways import after_row, comes
+from lookspoil.ways import after_row
 
 
 class Watch:
     """What looks at one cell tell: where names can stand behind them, and how long they can go on alike."""
 
-    def __init__(self, kind, standings):
+    def __init__(self, kind):
         self.answers = answers_of(kind)
-        self.begin = tuple([bits(comes(kind, standing)) for standing in standings])
         self._kind = kind
         self._behind = {}
         self._alike = {}
@@ -69,9 +68,14 @@ def zeros(known):
     return [standings == 0 for standings in known]
 
 
-def known_at_first(watches):
-    """What is known ahead of all looks."""
-    return narrowed(watches, tuple([watch.begin for watch in watches]), watches[0].begin)
+def known_at_first(watches, standings):
+    """What is known ahead of all looks.
+
+    standings has, for each name, the list of the standings in which each cell
+    can be: some for each cell, or none for any if the name is out.
+    """
+    known = tuple([tuple([bits(cells[cell]) for cells in standings]) for cell in range(len(watches))])
+    return narrowed(watches, known, known[0])
 
 
 def behind_look(watches, known, cell, answer):

@@ -8,6 +8,7 @@ from lookspoil.errors import NoPrices
 from lookspoil.knowing import Watch, behind_look, known_at_first, rank
 from lookspoil.making import is_told, program_of_points, told
 from lookspoil.stores import check_size
+from lookspoil.ways import comes
 
 MOST_PRICE = 1000
 MOST_LAYOUTS = 200
@@ -50,9 +51,10 @@ def check_prices(book, prices):
 
 def watches_of(book):
     """A watch for each cell of the book, and what is known ahead of all looks."""
-    watches = [
-        Watch(kind, [layout[cell] for layout in book.layouts]) for cell, kind in enumerate(book.store.kinds)]
-    return watches, known_at_first(watches)
+    kinds = book.store.kinds
+    watches = [Watch(kind) for kind in kinds]
+    standings = [[comes(kind, at) for kind, at in zip(kinds, layout)] for layout in book.layouts]
+    return watches, known_at_first(watches, standings)
 
 
 def best_looks(watches, begin, prices):

@@ -1,7 +1,7 @@
 """Stores, which are rows of cells, and books, which lay them down for names."""
 
 from lookspoil.checks import is_below, is_tuple
-from lookspoil.errors import BadBook, BadStore, TooLarge
+from lookspoil.errors import BadBook, BadStore, NoLayout, TooLarge
 from lookspoil.kinds import Kind
 
 MOST_CELLS = 5
@@ -33,6 +33,29 @@ class Book:
         return isinstance(other, Book) and self.store == other.store and self.layouts == other.layouts
 
 
+def book_of_any_size(store, layouts):
+    """The book with these layouts, which are right but for their number.
+
+    Only what is passed to the class is bounded, so the bound is not asked for here.
+    """
+    made = Book(store, layouts[:1])
+    made.layouts = layouts
+    return made
+
+
+def all_choices(lists):
+    """The tuples of one thing of each list, in the order of the lists."""
+    made = [()]
+    for things in lists:
+        made = [ahead + (thing,) for ahead in made for thing in things]
+    return made
+
+
+def all_layouts(store):
+    """The ascending list of the layouts of the store."""
+    return all_choices([list(range(kind.size)) for kind in store.kinds])
+
+
 def are_kinds(thing):
     """Whether thing is the kinds of a store."""
     return is_tuple(1, MOST_CELLS, thing) and all([isinstance(kind, Kind) for kind in thing])
@@ -50,6 +73,12 @@ def check_size(store, most):
         layouts = layouts * kind.size
     if layouts > most:
         raise TooLarge(most)
+
+
+def check_layout(store, layout):
+    """Raise NoLayout for what is no layout of the store."""
+    if not is_layout(store, layout):
+        raise NoLayout()
 
 
 def is_cell(store, thing):

@@ -1,14 +1,13 @@
 """Traces: what happens to a run, one move behind another."""
 
-from lookspoil.errors import NoLayout, NoTrace
+from lookspoil.errors import NoTrace
 from lookspoil.moves import is_cut, trace_end
-from lookspoil.stores import is_layout
+from lookspoil.stores import check_layout
 
 
 def follow(program, layout, trace):
     """The pair (place, layout) behind the trace."""
-    if not is_layout(program.store, layout):
-        raise NoLayout()
+    check_layout(program.store, layout)
     end = trace_end(program, layout, trace)
     if end is None:
         raise NoTrace()

@@ -124,3 +124,35 @@ def many_kinds():
         + some_kinds(40, "drifts", sizes=(2, 3, 4), answers=5, drifts=1, outcomes=1)
         + some_kinds(30, "both", sizes=(2, 3, 4), answers=7, drifts=1, outcomes=3)
         + some_kinds(6, "large", sizes=(6, 8), answers=9, drifts=1))
+
+
+def circle(size):
+    """A kind in which just those standings are alike that stand beside one another in a circle."""
+    looks = [sorted({(at, at), ((at + 1) % size, at)}) for at in range(size)]
+    return Kind(tuple(tuple(outcomes) for outcomes in looks), ((),) * size, ())
+
+
+FIVE, SEVEN, EIGHT = circle(5), circle(7), circle(8)
+EVEN = Kind(tuple(((at, at),) for at in range(8)), ((),) * 8, ())
+
+
+FOUND = {}
+
+
+def apart_pairs(kind):
+    """The pairs of standings that are apart, by a search."""
+    key = (kind.looks, kind.drifts)
+    if key not in FOUND:
+        FOUND[key] = frozenset(
+            (u, v) for u, v in itertools.product(range(kind.size), repeat=2)
+            if greatest_looks(kind, all_pairs(kind, u, v)) is not None)
+    return FOUND[key]
+
+
+def apart_layouts(store):
+    """For each layout the set of those that are apart from it."""
+    kinds = [apart_pairs(kind) for kind in store.kinds]
+    layouts = list(itertools.product(*[range(kind.size) for kind in store.kinds]))
+    return {
+        one: {two for two in layouts if any(pair in kind for pair, kind in zip(zip(one, two), kinds))}
+        for one in layouts}

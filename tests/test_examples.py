@@ -1,15 +1,19 @@
-"""The examples e01 to e09 of the document, word for word."""
+"""The examples e01 to e13 of the document, word for word."""
 
 import unittest
 
 from lookspoil.books import apart_cells
 from lookspoil.borne import cuts_borne, meeting
 from lookspoil.drying import dry_book, dry_program
+from lookspoil.greatest import most_names
 from lookspoil.judging import is_refutation
 from lookspoil.kinds import Kind
 from lookspoil.likenesses import is_likeness
+from lookspoil.logs import clearing, names_in
+from lookspoil.lying import lies_borne
 from lookspoil.pairs import apart, common, heights
 from lookspoil.programs import Program
+from lookspoil.standins import stand_in
 from lookspoil.stores import Book, Store
 from lookspoil.sures import class_of, classes
 from lookspoil.ways import after_row, comes, way_end
@@ -54,6 +58,21 @@ class Examples(unittest.TestCase):
 
     def test_e09(self):
         self.assertEqual(cuts_borne(dry_program((2, 1)), dry_book((2, 1))), 2)
+
+    def test_e10(self):
+        self.assertEqual(most_names(Store((wheel, still))), 2)
+
+    def test_e11(self):
+        self.assertEqual(lies_borne(Book(Store((still, still, still)), ((0, 0, 0), (1, 1, 1)))), 1)
+
+    def test_e12(self):
+        self.assertEqual(stand_in(still, core), (0, 0))
+        self.assertIsNone(stand_in(core, still))
+
+    def test_e13(self):
+        self.assertEqual(names_in(one, (("seen", 0, 1),)), [1])
+        self.assertEqual(clearing(one, ()), 1)
+        self.assertIsNone(clearing(one, (("lost",),)))
 
 
 if __name__ == "__main__":

@@ -27,6 +27,16 @@ FUNCTIONS = {
     "readers": ("bears(program, book)", "reader(book)", "most_looks(program)"),
     "quick": ("least_price(book, prices)", "cheapest_reader(book, prices)"),
     "drying": ("drying(most)", "dry_store(lengths)", "dry_book(lengths)", "dry_program(lengths)"),
+    "lying": ("tells_with_lies(program, book, many)", "lies_borne(book)", "lie_reader(book, many)"),
+    "greatest": (
+        "most_names(store)", "names_by_classes(store)", "greatest_book(store)", "kinds_sure(store)",
+        "alike_in(store, one, two)", "cover(store)", "is_cover(store, thing)"),
+    "standins": (
+        "stand_in(kind, other)", "is_stand_in(kind, other, thing)", "replaced(book, cell, kind, thing)",
+        "twin_book(kind)", "veil(kind)"),
+    "logs": (
+        "names_in(book, log)", "next_looks(book, log)", "layouts_behind(book, log, name)", "clearing(book, log)",
+        "entries_of(program, layout, trace)"),
     "ways": ("comes(kind, standing)", "after_row(kind, standings, row)", "way_end(kind, standing, way)"),
 }
 CLASSES = {

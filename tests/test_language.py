@@ -17,9 +17,9 @@ METHODS = (
 NEVER = (
     ast.GeneratorExp, ast.Set, ast.Global, ast.Div, ast.AsyncFunctionDef, ast.JoinedStr, ast.Import,
     ast.ExceptHandler, ast.Yield, ast.YieldFrom, ast.NamedExpr, ast.Starred)
-LIBRARY = {"heapq": ("heappop", "heappush")}
+LIBRARY = {"heapq": ("heappop", "heappush"), "itertools": ("combinations",)}
 ONCE = ("range", "zip", "enumerate", "reversed", "items", "keys", "values")
-TAKERS = ("list", "tuple", "dict", "sorted", "sum", "any", "all", "enumerate", "zip", "min", "max", "reversed")
+TAKERS = ("list", "tuple", "dict", "sorted", "sum", "any", "all", "enumerate", "zip", "min", "max", "reversed", "combinations")
 AT_TOP = (ast.ImportFrom, ast.FunctionDef, ast.ClassDef, ast.Assign)
 
 

@@ -13,33 +13,12 @@ from lookspoil.quick import cheapest_reader, least_price
 from lookspoil.readers import bears, most_looks, reader
 from lookspoil.stores import Book, Store
 from tests.samples import CORE, FOG, GEARS, LATE, LONE, MIST, STEEP, STILL, WHEEL, odd_things
-from tests.worlds import BOTH, BUSY_BOOK, bears_found, kept_books, layouts_coming, mixed_cases, ring_kind, uncut_from
+from tests.worlds import (
+    BOTH, BUSY_BOOK, bears_found, drifted, kept_books, layouts_coming, looked, mixed_cases, ring_kind, uncut_from)
 
 PRICES = (0, 0, 1, 1, 2, 3, 7, 1000)
 NEAR = (1, 2, 3, 4, 5, 6, 7, 9, 10)
 THREE = Book(Store((CORE, STILL, STILL)), ((1, 0, 0), (0, 1, 0), (1, 1, 1)))
-
-
-def drifted(store, worlds):
-    """The pairs of a name and a layout to which drifts lead from some of these."""
-    found, waiting = set(), list(worlds)
-    while waiting:
-        name, layout = waiting.pop()
-        if (name, layout) not in found:
-            found.add((name, layout))
-            for cell, kind in enumerate(store.kinds):
-                waiting += [
-                    (name, layout[:cell] + (goal,) + layout[cell + 1:]) for goal in kind.drifts[layout[cell]]]
-    return frozenset(found)
-
-
-def looked(store, worlds, cell):
-    """The worlds that are left behind each answer of a look at the cell."""
-    behind = {}
-    for name, layout in worlds:
-        for answer, goal in store.kinds[cell].looks[layout[cell]]:
-            behind.setdefault(answer, set()).add((name, layout[:cell] + (goal,) + layout[cell + 1:]))
-    return [drifted(store, left) for left in behind.values()]
 
 
 def price_found(book, prices):

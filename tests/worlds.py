@@ -329,6 +329,28 @@ def bears_found(program, book):
         for name in range(len(book.layouts)))
 
 
+def drifted(store, worlds):
+    """The pairs of a name and a layout to which drifts lead from some of these."""
+    found, waiting = set(), list(worlds)
+    while waiting:
+        name, layout = waiting.pop()
+        if (name, layout) not in found:
+            found.add((name, layout))
+            for cell, kind in enumerate(store.kinds):
+                waiting += [
+                    (name, layout[:cell] + (goal,) + layout[cell + 1:]) for goal in kind.drifts[layout[cell]]]
+    return frozenset(found)
+
+
+def looked(store, worlds, cell):
+    """The worlds that are left behind each answer of a look at the cell."""
+    behind = {}
+    for name, layout in worlds:
+        for answer, goal in store.kinds[cell].looks[layout[cell]]:
+            behind.setdefault(answer, set()).add((name, layout[:cell] + (goal,) + layout[cell + 1:]))
+    return [drifted(store, left) for left in behind.values()]
+
+
 # Looks tell the two rings apart only late, and in very many ways.
 BUSY = Kind(
     (((5, 1), (7, 0), (9, 1)), ((3, 3), (5, 0), (9, 3)), ((6, 0), (6, 1), (9, 0)), ((3, 0), (5, 3), (7, 2), (8, 2)),
