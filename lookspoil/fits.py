@@ -52,40 +52,40 @@ def allowed_behind(source, target, allowed, at, point):
 def some_fit(source, target):
     """Some fit of source in target, a list, or None.
 
-    What can be folded into another point has the same as that. Each part of
-    the others is fitted on its own; where all of its points are joined to one
-    another, this is but to find a clique.
+    What can be folded into another point has the same as that, and nothing
+    has what can be folded. Each part of the others is fitted on its own.
     """
     folds = folds_of(source)
     left = left_of(source, folds)
     core = part_of(source, left)
-    clique = greatest_clique(target)
+    goals = left_of(target, folds_of(target))
+    goals = sorted(goals, key=lambda point: -len(points_of(target[point])))
     fit = [None] * len(source)
     for part in parts_of(core):
-        found = fit_of_part(part_of(core, part), target, clique)
+        found = fit_of_part(part_of(core, part), part_of(target, goals))
         if found is None:
             return None
         for number, point in zip(part, found):
-            fit[left[number]] = point
+            fit[left[number]] = goals[point]
     for point, other in folds[::-1]:
         fit[point] = fit[other]
     return fit
 
 
-def fit_of_part(source, target, clique):
-    """What some_fit tells of a part of its source; clique is a greatest one of target."""
+def fit_of_part(source, target):
+    """Some fit of source, in which all hangs together; if all is joined to all, this is but to find a clique."""
     needed = greatest_clique(source)
+    clique = greatest_clique(target)
     if len(needed) > len(clique):
         return None
     if len(needed) == len(source):
         return clique[:len(needed)]
     points = by_joins(source, needed)
-    goals = sorted(range(len(target)), key=lambda point: -len(points_of(target[point])))
-    found = least_fit(part_of(source, points), part_of(target, goals))
+    found = least_fit(part_of(source, points), target)
     if found is None:
         return None
     told = dict(zip(points, found))
-    return [goals[told[point]] for point in range(len(source))]
+    return [told[point] for point in range(len(source))]
 
 
 def by_joins(graph, first):

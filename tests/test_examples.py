@@ -1,4 +1,4 @@
-"""The examples e01 to e13 of the document, word for word."""
+"""The examples e01 to e14 of the document, word for word."""
 
 import unittest
 
@@ -16,6 +16,7 @@ from lookspoil.programs import Program
 from lookspoil.standins import stand_in
 from lookspoil.stores import Book, Store
 from lookspoil.sures import class_of, classes
+from lookspoil.texts import kind_text
 from lookspoil.ways import after_row, comes, way_end
 
 core = Kind((((0, 0),), ((1, 0),)), ((), ()), ((0, ()), (1, (0,))))
@@ -73,6 +74,9 @@ class Examples(unittest.TestCase):
         self.assertEqual(names_in(one, (("seen", 0, 1),)), [1])
         self.assertEqual(clearing(one, ()), 1)
         self.assertIsNone(clearing(one, (("lost",),)))
+
+    def test_e14(self):
+        self.assertEqual(kind_text(core), "look 0:0\nlook 1:0\nput 0\nput 1 0\n")
 
 
 if __name__ == "__main__":

@@ -9,7 +9,6 @@ from lookspoil.books import denial, kept, keeping
 from lookspoil.errors import NoLayout, NotSure, TooLarge
 from lookspoil.greatest import alike_in, cover, greatest_book, is_cover, kinds_sure, most_names, names_by_classes
 from lookspoil.judging import table
-from lookspoil.kinds import Kind
 from lookspoil.readers import bears, reader
 from lookspoil.stores import Book, Store
 from lookspoil.sures import classes, haunted, sure
@@ -59,7 +58,8 @@ def mixed_kinds():
 
 SURE = small_stores(60, "sure", 64, sure_kinds())
 MIXED = small_stores(80, "mixed", 18, mixed_kinds() + sure_kinds())
-LARGE = [Store((EIGHT, EIGHT)), Store((EVEN, EVEN)), Store((STILL,) * 5), Store((SEVEN, SEVEN)), Store((FIVE, FIVE, STILL)),
+LARGE = [Store((EIGHT, EIGHT)), Store((EVEN, EVEN)), Store((STILL,) * 5), Store((SEVEN, SEVEN)),
+         Store((FIVE, FIVE, STILL)),
          Store((STILL, SEVEN, WHEEL)), Store((circle(4),) * 3), Store((GEARS, STEEP)), Store((FOG, FIVE, STILL))]
 TOO_LARGE = [Store((EVEN, EVEN, STILL)), Store((FIVE, FIVE, THREE)), Store((THREE, FIVE, FIVE)), Store((EIGHT,) * 5),
              Store((FIVE, THREE, circle(4), STILL)), Store((circle(6), FIVE, THREE)), Store((STILL,) * 4 + (FIVE,))]
@@ -241,7 +241,8 @@ class Covers(unittest.TestCase):
             [[(0, 0), (1, 0)], [(0, 1)]], [[(0, 0), (1, 0)]], right + [[(0, 0)]], right + right, [right[0], right[0]],
             [[(0, 0), (1, 0), (1, 0)], [(0, 1), (1, 1)]], [[(0, 0), (0, 1)], [(1, 0), (1, 1)]],
             [[(0, 0), (1, 1)], [(0, 1), (1, 0)]], [[(0, 0), (1, 0), (0, 1), (1, 1)]], [], [[]], (), ((),),
-            [[[0, 0], (1, 0)], [(0, 1), (1, 1)]], [[(0, 0), (1, 0)], [(0, 1), (1, 2)]], [[(0, 0), (1, 0)], [(0, 1), (1,)]],
+            [[[0, 0], (1, 0)], [(0, 1), (1, 1)]], [[(0, 0), (1, 0)], [(0, 1), (1, 2)]],
+            [[(0, 0), (1, 0)], [(0, 1), (1,)]],
             [[(0, 0), (1, 0)], [(0, 1), (1, 1, 0)]], [[(0, 0), (True, 0)], [(0, 1), (1, 1)]],
             [[(0, 0), (1, 0)], [(0, 1), (1, -1)]], [[(0, 0), (1, 0)], [(0, 1), (1, "1")]],
             [{(0, 0): 0, (1, 0): 0}, [(0, 1), (1, 1)]], {0: right[0], 1: right[1]}, [right], [right[0], None],
@@ -307,7 +308,8 @@ class AlikeIn(unittest.TestCase):
 
     def test_no_layout_for_either(self):
         store = Store((CORE, STILL))
-        wrong = [(), (0,), (0, 0, 0), (2, 0), (0, 2), (-1, 0), (0, -1), [0, 0], (True, 0), (0, False), ("0", 0), 0, None,
+        wrong = [(), (0,), (0, 0, 0), (2, 0), (0, 2), (-1, 0), (0, -1), [0, 0], (True, 0), (0, False), ("0", 0), 0,
+                 None,
                  {0: 0, 1: 0}, "00", b"00", range(2), ((0, 0),), (0, 10 ** 59), (0, None), ((0,), 0)]
         for thing in wrong + [thing for thing in odd_things() if thing != (0, 0) or type(thing) is list]:
             for one, two in [(thing, (0, 0)), ((0, 0), thing), (thing, thing)]:

@@ -37,6 +37,10 @@ FUNCTIONS = {
     "logs": (
         "names_in(book, log)", "next_looks(book, log)", "layouts_behind(book, log, name)", "clearing(book, log)",
         "entries_of(program, layout, trace)"),
+    "spares": ("spare_cells(book, menu)",),
+    "pruning": ("go_alike(program, other)", "pruned(program)", "alike_places(program)"),
+    "texts": ("kind_text(kind)", "program_text(program)", "book_text(book)"),
+    "reading": ("read_kind(text)", "read_program(store, text)", "read_book(store, text)"),
     "ways": ("comes(kind, standing)", "after_row(kind, standings, row)", "way_end(kind, standing, way)"),
 }
 CLASSES = {
@@ -44,12 +48,14 @@ CLASSES = {
     "stores": {"Store": ("kinds",), "Book": ("store", "layouts")},
     "programs": {"Program": ("store", "steps")},
     "benches": {"Bench": ("program", "layout")},
+    "desks": {"Desk": ()},
 }
 METHODS = {
     "Kind": ("__eq__(other)",), "Store": ("__eq__(other)",), "Book": ("__eq__(other)",),
     "Program": ("__eq__(other)",),
     "Bench": (
         "layout()", "trace()", "moves()", "do(move)", "name()", "back(many)", "copy()", "trying(action)"),
+    "Desk": ("tell(line)", "undoable()"),
 }
 
 

@@ -19,7 +19,9 @@ NEVER = (
     ast.ExceptHandler, ast.Yield, ast.YieldFrom, ast.NamedExpr, ast.Starred)
 LIBRARY = {"heapq": ("heappop", "heappush"), "itertools": ("combinations",)}
 ONCE = ("range", "zip", "enumerate", "reversed", "items", "keys", "values")
-TAKERS = ("list", "tuple", "dict", "sorted", "sum", "any", "all", "enumerate", "zip", "min", "max", "reversed", "combinations")
+TAKERS = (
+    "list", "tuple", "dict", "sorted", "sum", "any", "all", "enumerate", "zip", "min", "max", "reversed",
+    "combinations")
 AT_TOP = (ast.ImportFrom, ast.FunctionDef, ast.ClassDef, ast.Assign)
 
 
@@ -45,6 +47,11 @@ def called(node):
     return node.func.attr if isinstance(node.func, ast.Attribute) else getattr(node.func, "id", "")
 
 
+def is_table_of_functions(node):
+    """Whether the node is a dict of functions."""
+    return isinstance(node, ast.Dict) and all(isinstance(value, ast.Name) for value in node.values)
+
+
 class Language(unittest.TestCase):
     def test_files_and_characters(self):
         self.assertTrue(FILES)
@@ -65,9 +72,13 @@ class Language(unittest.TestCase):
     def test_module_level(self):
         for path, tree in trees():
             self.assertIsInstance(tree.body[0].value, ast.Constant, path)
+            above = set()
             for node in tree.body[1:]:
                 self.assertIsInstance(node, AT_TOP, path)
-                if isinstance(node, ast.Assign):
+                above |= {node.name} if isinstance(node, ast.FunctionDef) else set()
+                if isinstance(node, ast.Assign) and is_table_of_functions(node.value):
+                    self.assertLessEqual({value.id for value in node.value.values}, above, path)
+                elif isinstance(node, ast.Assign):
                     ast.literal_eval(node.value)
 
     def test_imports_name_the_file_that_defines_and_never_go_round(self):

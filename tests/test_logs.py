@@ -17,8 +17,8 @@ from tests.samples import (
     CORE, EVEN, FIVE, FOG, GEARS, LATE, LONE, MIST, SLIP, STEEP, STILL, WHEEL, greatest_looks, odd_things, one_by_one,
     some_kinds)
 from tests.worlds import (
-    BOTH, PAIR, SHORT, THREE, TORN, all_moves, answers_of_cell, chance_layout, chance_program, chance_trace, dry_case,
-    drifted, kept_books, looked, mixed_cases, put_kinds, ring_kind)
+    BOTH, PAIR, SHORT, THREE, TORN, answers_of_cell, chance_layout, chance_trace, dry_case, drifted, kept_books, looked,
+    mixed_cases, put_kinds, ring_kind)
 
 
 def lost(store, worlds):
@@ -143,7 +143,8 @@ WRONG_LOGS = [
     [("seen", 10 ** 59, 0)], [("look", 0, 0)], [("Lost",)], [("cut",)], [("seen ", 0, 0)], [(b"seen", 0, 0)],
     [(b"lost",)], [("",)], [()], [[]], [{}], [0], [None], [True], [("lost",), None], [("lost",), ("seen", 0)],
     (("lost",),) * 41, [("seen", 0, 0)] * 41, [("lost",)] * 10000, iter([("lost",)]), iter(()), (x for x in ()),
-    {("lost",): 0}, [(("lost",),)], [(0, "seen", 0)], [("seen", [0], 0)], [("seen", 0, {})], [("step", 0)], [("lost", None)]]
+    {("lost",): 0}, [(("lost",),)], [(0, "seen", 0)], [("seen", [0], 0)], [("seen", 0, {})], [("step", 0)],
+    [("lost", None)]]
 
 
 def wrong_logs():
@@ -379,7 +380,8 @@ class Clearing(unittest.TestCase):
         for kinds in [(five, five, GEARS), (GEARS, five, five, LONE), (WHEEL, GEARS, GEARS)]:
             book = Book(Store(kinds), ((0,) * len(kinds), (1,) + (0,) * (len(kinds) - 1)))
             self.assertIn(clearing(book, ()), (1, 2, 3))
-        for kinds in [(five, WHEEL, seven, CORE), (GEARS,) * 5, (GEARS, GEARS, CORE, CORE), (seven, five, THREE, STILL)]:
+        for kinds in [(five, WHEEL, seven, CORE), (GEARS,) * 5, (GEARS, GEARS, CORE, CORE),
+                      (seven, five, THREE, STILL)]:
             for names in (1, 2):
                 book = Book(Store(kinds), tuple((at,) * len(kinds) for at in range(names)))
                 for log in [(), [("lost",)], [("seen", 0, 9)], [("seen", 0, 0)]]:
@@ -436,7 +438,8 @@ class Entries(unittest.TestCase):
                 told = entries_of(program, layout, trace)
                 self.assertIs(type(told), list)
                 self.assertEqual(told, entries_found(program, layout, trace))
-                words |= {(move[0], program.steps[place][0]) for move, place in zip(trace, self.places(program, layout, trace))}
+                words |= {(move[0], program.steps[place][0]) for move,
+                          place in zip(trace, self.places(program, layout, trace))}
                 lengths.add(min(len(told), 41))
         self.assertTrue({("step", "look"), ("step", "put"), ("spoilt", "look"), ("torn", "put"), ("cut", "look"),
                          ("cut", "put"), ("drift", "look"), ("drift", "put")} <= words, words)
@@ -479,7 +482,8 @@ class Entries(unittest.TestCase):
                     with self.assertRaises(NoLayout, msg=repr(layout)[:200]):
                         entries_of(SHORT, layout, trace)
         wrong = [[], [("step", 0)], (("step", 1),), (("step", 0), ("cut",)), (("torn", 0),), (("drift", 0, 0),),
-                 (("spoilt", 1),), (("cut", 0),), ("cut",), (("step", True),), (("step", False),), (["cut"],), None, "cut"]
+                 (("spoilt", 1),), (("cut", 0),), ("cut",), (("step", True),), (("step", False),), (["cut"],), None,
+                 "cut"]
         for trace in wrong + [thing for thing in odd_things() if not (type(thing) is tuple and len(thing) == 0)]:
             with self.assertRaises(NoTrace, msg=repr(trace)[:200]):
                 entries_of(SHORT, (0,), trace)

@@ -12,7 +12,7 @@ from lookspoil.readers import bears, most_looks, reader
 from lookspoil.stores import Book, Store
 from tests.samples import CORE, LATE, LONE, MIST, SLIP, STILL, WHEEL, all_pairs, greatest_looks, odd_things
 from tests.worlds import (
-    BOTH, OTHERS, PAIR, SHORT, THREE, answers_of_cell, bears_found, chance_layout, chance_program, chance_store, chain,
+    BOTH, OTHERS, PAIR, SHORT, THREE, bears_found, chance_layout, chance_program, chance_store, chain,
     kept_books, layouts_coming, mixed_cases, put_kinds, ring_kind, with_put_in)
 
 
@@ -299,9 +299,8 @@ class LieReader(unittest.TestCase):
     def test_cells_that_need_many_looks(self):
         book = Book(Store((LATE, SLIP, LATE)), ((0, 0, 3), (3, 2, 0)))
         self.assertEqual(lies_borne(book), borne_found(book))
-        kinds = tuple(Kind(
-            tuple(((0, at + 1),) for at in range(2)) + (((0, 3),), ((1, 3),), ((0, 4),)), ((),) * 5, ()) for _ in range(3))
-        slow = Book(Store(kinds), ((0, 0, 0), (4, 4, 4)))
+        slow = Kind((((0, 1),), ((0, 2),), ((0, 3),), ((1, 3),), ((0, 4),)), ((),) * 5, ())
+        slow = Book(Store((slow,) * 3), ((0, 0, 0), (4, 4, 4)))
         self.assertTrue(lies_found(self.check(slow, 1), slow, 1))
 
     def test_codes_of_many_names(self):

@@ -233,7 +233,8 @@ class Errors(unittest.TestCase):
         five = Kind(tuple(((at, at),) for at in range(5)), ((),) * 5, ())
         seven = Kind(tuple(((at, at),) for at in range(7)), ((),) * 7, ())
         six = Kind(tuple(((at, at),) for at in range(6)), ((),) * 6, ())
-        for kinds in [(five, six, seven), (GEARS, GEARS, CORE, CORE), (GEARS,) * 5, (six, six, six), (seven, five, six)]:
+        for kinds in [(five, six, seven), (GEARS, GEARS, CORE, CORE), (GEARS,) * 5, (six, six, six),
+                      (seven, five, six)]:
             for names in (1, 2):
                 book = Book(Store(kinds), tuple((at,) * len(kinds) for at in range(names)))
                 caught = self.refuse(TooLarge, book, (1,) * len(kinds))

@@ -189,7 +189,8 @@ class Replaced(unittest.TestCase):
                     replaced(book, cell, CORE, thing)
         with self.assertRaises(NoStandIn):
             replaced(Book(Store((STILL, CORE)), ((0, 0), (0, 1))), 0, THREE, (1, 1))
-        self.assertEqual(replaced(Book(Store((STILL, CORE)), ((0, 0), (0, 1))), 1, THREE, (1, 1)).layouts, ((0, 1), (0, 1)))
+        self.assertEqual(replaced(Book(Store((STILL, CORE)), ((0, 0), (0, 1))), 1, THREE, (1, 1)).layouts,
+                         ((0, 1), (0, 1)))
 
 
 FEW = [kind for kind in many_kinds() + SMALL + put_kinds(20, "veils") if kind.size <= 4]
