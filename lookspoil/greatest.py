@@ -1,6 +1,5 @@
 """Greatest books of stores, and covers, which show that they are."""
 
-from lookspoil.errors import NotSure
 from lookspoil.graphs import all_points, apart_graph, greatest_clique, joined_in_some, lots_of
 from lookspoil.pairs import apart
 from lookspoil.stores import all_layouts, book_of_any_size, check_layout, check_size, is_layout
@@ -29,9 +28,7 @@ def kinds_sure(store):
 
 
 def names_by_classes(store):
-    """The product of the numbers of the classes of the kinds, which must be sure."""
-    if not kinds_sure(store):
-        raise NotSure()
+    """The product of the numbers of the classes of the kinds, all of which must be sure to have them."""
     names = 1
     for kind in store.kinds:
         names = names * len(classes(kind))

@@ -42,12 +42,10 @@ def clearing(book, log):
     check_size(book.store, MOST_LAYOUTS)
     kinds = book.store.kinds
     behind = standings_behind(book, log)
-    left = names_left(behind)
-    if len(left) <= 1:
+    if len(names_left(behind)) <= 1:
         return 0
     tables = [height_table(kind) for kind in kinds]
-    pairs = [(one, two) for one, two in name_pairs(book) if one in left and two in left]
-    if any([can_go_alike(tables, behind[one], behind[two]) for one, two in pairs]):
+    if any([can_go_alike(tables, behind[one], behind[two]) for one, two in name_pairs(book)]):
         return None
     watches = [Watch(kind) for kind in kinds]
     out = [[]] * len(kinds)
@@ -129,7 +127,7 @@ def tells_some(kind, standings):
 
 
 def can_go_alike(tables, one, two):
-    """Whether looks at no cell must put out one of two names, each with the lists of its standings, ever.
+    """Whether two names, each with the lists of its standings, can both be left for ever, wherever one looks.
 
     tables have the height of each pair of standings that has no endless joint looks ahead.
     """

@@ -44,7 +44,8 @@ def veil(kind):
     Each two standings that are apart in kind have an answer of their own, and
     each standing one that no other one has.
     """
-    check_veiled(kind)
+    if kind.size > MOST_VEILED:
+        raise TooLarge(MOST_VEILED)
     graph = apart_graph(kind)
     pairs = [(u, v) for u, joined in enumerate(graph) for v in points_of(joined) if u < v]
     shared = [
@@ -56,11 +57,4 @@ def veil(kind):
 
 def twin_book(kind):
     """The book of a cell of kind and one of its veil, with both in each standing."""
-    check_veiled(kind)
     return Book(Store((kind, veil(kind))), tuple([(standing, standing) for standing in range(kind.size)]))
-
-
-def check_veiled(kind):
-    """Raise TooLarge for a kind that has more standings than a veil has answers for."""
-    if kind.size > MOST_VEILED:
-        raise TooLarge(MOST_VEILED)

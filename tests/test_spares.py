@@ -172,6 +172,16 @@ class SpareCells(unittest.TestCase):
         five = Book(Store((FIVE, FIVE)), tuple((at, at * 2 % 5) for at in range(5)))
         self.assertEqual(self.check(five, ((STILL, 1),)), (0, ()))
 
+    def test_twelve_names_in_a_circle_and_beside_it(self):
+        # Seven names are alike to all others, five to those beside them in a circle: ten lots of names are needed.
+        hub = Kind(circle(5).looks + (((0, 5), (2, 5), (4, 5)),), ((),) * 6, ())
+        book = Book(Store((hub,)), tuple((at,) for at in range(5)) + ((5,),) * 7)
+        self.assertEqual(len(alike_names(book)), 5 + 35 + 21)
+        four = Kind(tuple(((at, at),) for at in range(4)), ((),) * 4, ())
+        self.assertIsNone(spare_cells(book, ((THREE, 1), (STILL, 1))))
+        self.assertEqual(self.check(book, ((THREE, 2), (four, 5), (EVEN, 9))), (7, (0, 1)))
+        self.assertEqual(self.check(Book(book.store, book.layouts[:11]), ((THREE, 2), (four, 5))), (4, (0, 0)))
+
     def test_names_some_of_which_are_alike(self):
         # Some names are alike to all others, some only to few, so that they can have one standing.
         store = Store((circle(6), circle(5)))

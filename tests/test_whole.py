@@ -1,6 +1,7 @@
 """0.2 to 0.5 over the whole program, and what is equal (1.1, 2.1, 6.1)."""
 
 import copy
+import inspect
 import itertools
 import random
 import sys
@@ -177,6 +178,56 @@ class Answers(unittest.TestCase):
         for function, arguments in calls():
             if function.__name__.startswith("is_"):
                 self.assertIs(function(*arguments), True, function.__name__)
+
+
+class WrongArguments(unittest.TestCase):
+    """Where an error is named for an argument, no other one is raised, whatever it is."""
+
+    ERRORS = {
+        "u": "NoStanding", "v": "NoStanding", "standing": "NoStanding", "way": "NoWay", "standings": "NoStandings",
+        "row": "NoRow",
+        "layout": "NoLayout", "trace": "NoTrace", "denied": "NoDenial", "prices": "NoPrices", "most": "NoNumber",
+        "lengths": "NoLengths", "many": "NoNumber", "cell": "NoCell", "log": "NoLog", "name": "NoName",
+        "menu": "NoMenu",
+        "text": "BadText"}
+
+    def named(self, function, argument):
+        """The error that is named for an argument of a function, None if there is none."""
+        if argument in ("one", "two"):
+            return "NoLayout" if function is alike_in else "NoName"
+        if argument == "thing":
+            return "NoStandIn" if function is replaced else None
+        return None if function is cuts_in else self.ERRORS.get(argument)
+
+    def test_functions(self):
+        seen = set()
+        things = odd_things() + [Bench(SHORT, (0,)), Desk(), Bench, SHORT, 10 ** 60 - 1, 1 - 10 ** 60]
+        for function, arguments in calls():
+            for at, argument in enumerate(inspect.signature(function).parameters):
+                error = self.named(function, argument)
+                seen.add(error)
+                for thing in things if error else ():
+                    try:
+                        function(*arguments[:at], thing, *arguments[at + 1:])
+                    except SpoilError as raised:
+                        self.assertEqual(type(raised).__name__, error, (function.__name__, argument, repr(thing)[:100]))
+        self.assertEqual(seen, {None, *self.ERRORS.values(), "NoStandIn"})
+
+    def test_classes_and_methods(self):
+        bench, desk, store = Bench(SHORT, (1,)), Desk(), SHORT.store
+        for thing in odd_things() + [Bench(SHORT, (0,)), Desk(), Bench, SHORT]:
+            for call, error in [
+                    (lambda: Kind(thing, ((),), ()), "BadKind"), (lambda: Kind((((0, 0),),), thing, ()), "BadKind"),
+                    (lambda: Kind((((0, 0),),), ((),), thing), "BadKind"), (lambda: Store(thing), "BadStore"),
+                    (lambda: Book(store, thing), "BadBook"), (lambda: Program(store, thing), "BadProgram"),
+                    (lambda: Program(store, (thing,)), "BadProgram"), (lambda: Bench(SHORT, thing), "NoLayout"),
+                    (lambda: bench.do(thing), "NoMove"), (lambda: bench.back(thing), "NoNumber"),
+                    (lambda: desk.tell(thing), "NoLine")]:
+                try:
+                    call()
+                except SpoilError as raised:
+                    self.assertEqual(type(raised).__name__, error, repr(thing)[:100])
+        self.assertEqual((bench.place, bench.layout(), bench.trace(), desk.undoable()), (0, (1,), (), 0))
 
 
 class Judges(unittest.TestCase):
