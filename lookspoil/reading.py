@@ -13,8 +13,8 @@ def read_kind(text):
     looks = [line for line in lines if line[0] == "look"]
     puts = [line for line in lines if line[0] == "put"]
     return Kind(
-        tuple([outcomes for _, outcomes, _ in looks]), tuple([goals for _, _, goals in looks]),
-        tuple([(standing, torn) for _, standing, torn in puts]))
+        tuple([line[1] for line in looks]), tuple([line[2] for line in looks]),
+        tuple([(line[1], line[2]) for line in puts]))
 
 
 def read_program(store, text):
